@@ -1,0 +1,1 @@
+"""Skypasses: what satellites look at, and none better."""

@@ -1,0 +1,93 @@
+"""The form of the package: sizes, characters and imports (LANGUAGE.md), and the interface (DOC.md)."""
+
+import ast
+import importlib
+import inspect
+import pathlib
+import re
+import unittest
+
+import skypasses
+
+PACKAGE = pathlib.Path(skypasses.__file__).parent
+LIBRARY = {"heapq", "math", "itertools", "collections", "__future__"}
+
+# The functions of the interface, with their parameters as the document writes them.
+INTERFACE = {
+    "skypasses.skies": [
+        "check_sky(sky)",
+        "end_of(sky, look)",
+        "turning(sky, first, second)",
+        "emptied(sky, amount, *, since, until)",
+        "wrong_in(sky, names)",
+        "is_plan(sky, names)",
+        "worth_of(sky, names)",
+        "levels(sky, plan)",
+    ],
+    "skypasses.rings": [
+        "place_of(ring, satellite, time)",
+        "way(ring, first, second)",
+        "sees(ring, satellite, cell, time)",
+        "passes(ring, satellite, cell, *, horizon)",
+        "period(ring, fleet)",
+        "greatest_gap(ring, fleet, cell)",
+        "seen_by(ring, fleet, *, horizon)",
+        "looks_of(ring, satellite, wishes)",
+    ],
+}
+
+
+def files():
+    return sorted(PACKAGE.rglob("*.py"))
+
+
+def trees():
+    return [(path, ast.parse(path.read_text(encoding="utf-8"))) for path in files()]
+
+
+class Form(unittest.TestCase):
+    def test_there_are_only_python_files_with_plain_names(self):
+        self.assertTrue((PACKAGE / "__init__.py").is_file())
+        for path in PACKAGE.rglob("*"):
+            if path.is_file() and path.parent.name != "__pycache__":
+                self.assertRegex(path.name, r"^[a-z0-9_]+\.py$")
+
+    def test_lengths_of_files_and_lines(self):
+        for path in files():
+            lines = path.read_text(encoding="utf-8").split("\n")
+            self.assertLessEqual(len(lines), 399, path.name)
+            for number, line in enumerate(lines, start=1):
+                self.assertLessEqual(len(line), 120, f"{path.name}:{number}")
+
+    def test_lengths_of_functions(self):
+        for path, tree in trees():
+            for node in ast.walk(tree):
+                if isinstance(node, ast.FunctionDef):
+                    self.assertLessEqual(node.end_lineno - node.lineno + 1, 40, f"{path.name}: {node.name}")
+
+    def test_characters(self):
+        for path in files():
+            self.assertIsNone(re.search(rb"[^\n -~]", path.read_bytes()), path.name)
+
+    def test_imports(self):
+        for path, tree in trees():
+            for node in ast.walk(tree):
+                self.assertNotIsInstance(node, ast.Import, path.name)
+                if isinstance(node, ast.ImportFrom):
+                    self.assertEqual(node.level, 0, path.name)
+                    self.assertIn(node.module.split(".")[0], LIBRARY | {"skypasses"}, path.name)
+                    self.assertNotIn("*", [name.name for name in node.names], path.name)
+
+
+class Interface(unittest.TestCase):
+    def test_functions_and_their_parameters(self):
+        for module, told in INTERFACE.items():
+            for line in told:
+                with self.subTest(module + "." + line):
+                    function = getattr(importlib.import_module(module), line.split("(")[0])
+                    self.assertEqual(function.__name__ + str(inspect.signature(function)), line)
+                    self.assertEqual(function.__module__, module)
+
+
+if __name__ == "__main__":
+    unittest.main()
