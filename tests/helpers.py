@@ -1,6 +1,7 @@
 """What several tests need: skies made by parts, skies by chance, and the points told tick by tick."""
 
 import copy
+import itertools
 import random
 
 EXAMPLE = ([(0, 0, 2, 0, 4), (1, 3, 1, 30, 3), (0, 6, 1, 0, 2)], [5, 7], [(2, 4, 1)], 6, 20)
@@ -85,6 +86,90 @@ def naive_wrong(sky, names):
         if not run_store(sky, ahead + [name])[0][-1]:
             return ("room", at)
     return None
+
+
+def small_worths(sky, seed):
+    """The sky with worths so small that several plans have the greatest one, and nothing is gained by some looks."""
+    chance = random.Random(seed)
+    return (sky[0], [chance.randint(0, 3) for _ in sky[1]], *sky[2:])
+
+
+def large_sky(seed, looks=16, wishes=6):
+    """A sky with as many looks, wishes and ears as there can be, in which most looks can come behind one another."""
+    chance = random.Random(seed)
+    told = [
+        (k % wishes, 12 * k + chance.randint(0, 2), chance.randint(1, 4), chance.randint(-40, 40), chance.randint(1, 5))
+        for k in range(looks)
+    ]
+    ears = [(10 + 45 * k, 14 + 45 * k, 1) for k in range(4)]
+    return (told, [chance.randint(1, 99) for _ in range(wishes)], ears, 30, 90)
+
+
+def every_plan(sky):
+    """All plans, in the order of lists, by trying each ascending list."""
+    names = range(len(sky[0]))
+    told = [list(part) for length in range(min(6, len(names)) + 1) for part in itertools.combinations(names, length)]
+    return sorted(part for part in told if naive_wrong(sky, part) is None)
+
+
+def naive_worth(sky, names):
+    return sum(sky[1][wish] for wish in {sky[0][name][0] for name in names})
+
+
+def naive_behind(sky, state, look):
+    """The state behind the look by points 20 and 21, told tick by tick, or None if it can't come next."""
+    looks, _, _, capacity, _ = sky
+    last, store, taken = state
+    wish, start, length, _, size = looks[look]
+    since = 0
+    if last >= 0:
+        since = looks[last][1] + looks[last][2]
+        if start < since + naive_turning(sky, last, look):
+            return None
+    if wish in taken or naive_emptied(sky, store, since, start) + size > capacity:
+        return None
+    return (look, naive_emptied(sky, store, since, start + length) + size, tuple(sorted(taken + (wish,))))
+
+
+def naive_ways(sky, state):
+    """The looks that can come next with the states behind them."""
+    told = [(look, naive_behind(sky, state, look)) for look in range(len(sky[0]))]
+    return [(look, behind) for look, behind in told if behind is not None]
+
+
+def naive_rest(sky, state):
+    gains = [sky[1][sky[0][look][0]] + naive_rest(sky, behind) for look, behind in naive_ways(sky, state)]
+    return max(gains, default=0)
+
+
+def naive_reached(sky):
+    """The states behind all plans, ascending."""
+    found = set()
+    for plan in every_plan(sky):
+        state = (-1, 0, ())
+        for look in plan:
+            state = naive_behind(sky, state, look)
+        found.add(state)
+    return sorted(found)
+
+
+def all_states(sky):
+    """Each state of the sky, reached or not, ascending."""
+    wishes = range(len(sky[1]))
+    taken = sorted(part for length in range(len(wishes) + 1) for part in itertools.combinations(wishes, length))
+    return list(itertools.product(range(-1, len(sky[0])), range(sky[3] + 1), taken))
+
+
+def chance_fleet(seed):
+    """A fleet of small skies with the same worths, small ones, so that there are several best fleet plans."""
+    chance = random.Random(seed)
+    worths = [chance.randint(0, 3) for _ in range(chance.randint(1, 4))]
+    fleet = []
+    for _ in range(chance.randint(1, 3)):
+        looks, _, ears, capacity, turn = chance_sky(chance.randrange(10 ** 6))
+        looks = [(look[0] % len(worths), *look[1:]) for look in looks[:4]]
+        fleet.append((looks, list(worths), ears, capacity, turn))
+    return fleet
 
 
 def keeps(test, function, *args, **keywords):
