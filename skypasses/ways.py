@@ -68,3 +68,11 @@ def is_right(place, table, beginning, is_state, ways_on):
         return False
     bounds = bounds_of(table)
     return beginning in bounds and are_bounds(place, bounds, ways_on)
+
+
+def parts_of(names):
+    """Return the list of the tuples with some of the names, or none, in their order."""
+    found = [()]
+    for name in names:
+        found = found + [(*part, name) for part in found]
+    return found

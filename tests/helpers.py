@@ -172,6 +172,53 @@ def chance_fleet(seed):
     return fleet
 
 
+def without(sky, failing):
+    """The sky without the ears that fail."""
+    return (sky[0], sky[1], [ear for name, ear in enumerate(sky[2]) if name not in failing], *sky[3:])
+
+
+def every_failing(sky, most):
+    """All failings with at most so many ears, as tuples in ascending order."""
+    names = range(len(sky[2]))
+    return sorted(part for k in range(min(most, len(names)) + 1) for part in itertools.combinations(names, k))
+
+
+def naive_store(sky, names, time):
+    """What is in the store at the time by point 5, behind the ears and behind looks that end then."""
+    store = 0
+    for now in range(time + 1):
+        if now:
+            store -= min(store, tick_loss(sky[2], now - 1))
+        store += sum(sky[0][name][4] for name in names if sky[0][name][1] + sky[0][name][2] == now)
+    return store
+
+
+def naive_state(sky, look, taken, failing):
+    """The state at the start of the look when these looks were taken and these ears fail (point 33)."""
+    start = sky[0][look][1]
+    failed = tuple(ear for ear in failing if sky[2][ear][0] <= start)
+    wishes = tuple(sorted(sky[0][name][0] for name in taken))
+    amount = naive_store(without(sky, failed), taken, start)
+    return (look, taken[-1] if taken else -1, amount, wishes, failed)
+
+
+def naive_may(sky, look, taken, failing):
+    """Whether the look may be taken behind these when these ears fail (point 32)."""
+    known = [ear for ear in failing if sky[2][ear][0] <= sky[0][look][1]]
+    return naive_wrong(without(sky, known), taken + [look]) is None
+
+
+def naive_taken(sky, rule, failing):
+    """The looks that are taken by the rule, by the words of points 32 to 34."""
+    taken = []
+    for look in range(len(sky[0])):
+        state = naive_state(sky, look, taken, failing)
+        moves = [move for told, move in rule if told == state]
+        if moves and moves[0] == "take" and naive_may(sky, look, taken, failing):
+            taken.append(look)
+    return taken
+
+
 def keeps(test, function, *args, **keywords):
     """Calls the function, and again when what it returned was spoiled: the same must come, and no argument change."""
     before = copy.deepcopy((args, keywords))
