@@ -88,6 +88,12 @@ def check_sky(sky):
         raise BadNumber()
 
 
+def copy_of(sky):
+    """Return a sky that is equal to this one, with lists of its own."""
+    looks, worths, ears, capacity, turn = sky
+    return (list(looks), list(worths), list(ears), capacity, turn)
+
+
 def wish_of(sky, look):
     """Return the wish that the look with this name is for."""
     return sky[0][look][0]

@@ -219,6 +219,62 @@ def naive_taken(sky, rule, failing):
     return taken
 
 
+PLANS = {}
+
+
+def plans_once(sky):
+    """All plans as `every_plan` tells them, worked out once for each sky."""
+    key = repr((sky[0], sky[2:]))
+    if key not in PLANS:
+        PLANS[key] = every_plan(sky)
+    return PLANS[key]
+
+
+def wishes_in(sky, names):
+    return sorted({sky[0][name][0] for name in names})
+
+
+def naive_on(sky, now=0, begun=()):
+    """All plans that go on (point 51), in the order of lists."""
+    count = len(begun)
+    return [plan for plan in plans_once(sky)
+            if plan[:count] == list(begun) and all(sky[0][name][1] >= now for name in plan[count:])]
+
+
+def naive_keeping(sky, promises, now=0, begun=()):
+    """All plans that go on and keep the promises, in the order of lists."""
+    return [plan for plan in naive_on(sky, now, begun) if set(promises) <= set(wishes_in(sky, plan))]
+
+
+def naive_best(sky, promises, now=0, begun=()):
+    """The best plan that keeps the promises with its worth, or None (point 52)."""
+    plans = naive_keeping(sky, promises, now, begun)
+    if not plans:
+        return None
+    worth = max(naive_worth(sky, plan) for plan in plans)
+    return (worth, min(plan for plan in plans if naive_worth(sky, plan) == worth))
+
+
+def naive_clash(sky, promises, wish, now=0, begun=()):
+    """The clash of the wish with the promises, or None, by the words of point 54."""
+    for count in range(len(promises) + 1):
+        for part in itertools.combinations(promises, count):
+            if not naive_keeping(sky, [*part, wish], now, begun):
+                return list(part)
+    return None
+
+
+def naive_late(sky, worth, looks):
+    """The sky with the late wish, by the words of point 56: each look behind all that do not start later."""
+    told = list(sky[0])
+    for look in looks:
+        at = 0
+        while at < len(told) and told[at][1] <= look[0]:
+            at += 1
+        told.insert(at, (len(sky[1]), *look))
+    return (told, sky[1] + [worth], *sky[2:])
+
+
 def keeps(test, function, *args, **keywords):
     """Calls the function, and again when what it returned was spoiled: the same must come, and no argument change."""
     before = copy.deepcopy((args, keywords))

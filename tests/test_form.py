@@ -1,6 +1,7 @@
 """The form of the package: sizes, characters and imports (LANGUAGE.md), and the interface (DOC.md)."""
 
 import ast
+import doctest
 import importlib
 import inspect
 import pathlib
@@ -102,7 +103,65 @@ INTERFACE = {
         "idle_ears(sky)",
         "fewest_ears(sky)",
     ],
+    "skypasses.clashes": [
+        "can_be_had(sky, wishes)",
+        "plan_for(sky, wishes)",
+        "full_sets(sky)",
+        "clashes(sky)",
+        "standing(sky, wish)",
+        "price(sky, wish)",
+        "ways_to_have(sky, wishes)",
+    ],
+    "skypasses.late": [
+        "plans_on(sky, *, now=0, begun=())",
+        "can_keep(sky, promises, *, now=0, begun=())",
+        "best_keeping(sky, promises, *, now=0, begun=())",
+        "clash_of(sky, promises, wish, *, now=0, begun=())",
+        "loss_of(sky, promises, *, now=0, begun=())",
+        "forced_looks(sky, promises, *, now=0, begun=())",
+        "open_looks(sky, promises, *, now=0, begun=())",
+        "last_call(sky, promises, wish, *, now=0, begun=())",
+        "with_late(sky, worth, looks, *, now)",
+        "answer_late(sky, promises, worth, looks, *, now=0, begun=())",
+        "go_through(sky, promises, arrivals)",
+    ],
+    "skypasses.changes": [
+        "without_look(sky, look)",
+        "with_look(sky, look)",
+        "losses(sky)",
+        "line_of(sky, wish)",
+        "threshold(sky, wish)",
+        "mirrored(sky)",
+        "moved(sky, by)",
+        "turned_back(sky)",
+        "scaled(sky, by)",
+    ],
+    "skypasses.console": [
+        "replay(sky, journal)",
+    ],
 }
+
+# The methods of the console, and its properties.
+METHODS = [
+    "__init__(self, sky)",
+    "go(self, time)",
+    "wish(self, worth, looks)",
+    "promise(self, wish)",
+    "release(self, wish)",
+    "lose(self, ear)",
+    "undo(self)",
+    "redo(self)",
+    "do_all(self, deeds)",
+    "what_if(self, deeds)",
+    "sky(self)",
+    "begun(self)",
+    "promises(self)",
+    "plan(self)",
+    "worth(self)",
+    "journal(self)",
+    "__len__(self)",
+]
+PROPERTIES = ["now", "can_undo", "can_redo"]
 
 
 def files():
@@ -155,6 +214,21 @@ class Interface(unittest.TestCase):
                     function = getattr(importlib.import_module(module), line.split("(")[0])
                     self.assertEqual(function.__name__ + str(inspect.signature(function)), line)
                     self.assertEqual(function.__module__, module)
+
+    def test_methods_and_properties_of_the_console(self):
+        console = importlib.import_module("skypasses.console").Console
+        self.assertEqual(console.__module__, "skypasses.console")
+        for line in METHODS:
+            method = vars(console)[line.split("(")[0]]
+            self.assertEqual(method.__name__ + str(inspect.signature(method)), line)
+        for name in PROPERTIES:
+            self.assertIsInstance(vars(console)[name], property)
+
+    def test_the_examples_of_the_readme(self):
+        text = (PACKAGE.parent / "README.md").read_text(encoding="utf-8").replace("```", "")
+        example = doctest.DocTestParser().get_doctest(text, {}, "README.md", "README.md", 0)
+        self.assertGreater(len(example.examples), 20)
+        self.assertEqual(doctest.DocTestRunner(verbose=False).run(example).failed, 0)
 
 
 if __name__ == "__main__":
