@@ -67,7 +67,7 @@ def clash_of(sky, promises, wish, *, now=0, begun=()):
     """Return the clash of the wish with the promises, or None if there is none."""
     sets = sets_with(sky, wish, now, begun)
     # The last part has all promises: if they can be kept with the wish, so can each part of them.
-    for part in sorted(parts_of(promises), key=lambda wishes: (len(wishes), wishes)):
+    for part in sorted(parts_of(promises), key=lambda names: (len(names), names)):
         if not any([has_all(wishes, part) for wishes in sets]):
             return list(part)
     return None

@@ -360,7 +360,7 @@ class GoThrough(unittest.TestCase):
     def test_by_the_words(self):
         chance = random.Random(58)
         answers = [0, 0]
-        for seed in range(90):
+        for seed in range(45):
             sky = small_worths(chance_sky(seed), seed) if seed % 2 else chance_sky(seed)
             sky = ([(look[0] % 3, *look[1:]) for look in sky[0][:4]], (sky[1] * 3)[:3], *sky[2:])
             able = [part for part in every_set(sky) if naive_keeping(sky, part)]
@@ -376,7 +376,7 @@ class GoThrough(unittest.TestCase):
             self.assertEqual(go_through(sky, promises, arrivals), told)
             for answer in told[0]:
                 answers[answer is None] += 1
-        self.assertGreater(min(answers), 40)
+        self.assertGreater(min(answers), 20)
 
     def test_the_greatest_size(self):
         sky = large_sky(10, looks=12, wishes=4)
