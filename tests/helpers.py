@@ -57,7 +57,7 @@ def run_store(sky, names):
     fits = {}
     ends = {}
     store = 0
-    for time in range(240):
+    for time in range(max((looks[name][1] + looks[name][2] for name in names), default=0) + 1):
         if time:
             store -= min(store, tick_loss(ears, time - 1))
         for name in names:
