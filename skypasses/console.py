@@ -51,11 +51,12 @@ def promise_wish(stand, wish):
     """Return the stand with the wish promised, and by how much the worth of the plan falls."""
     check_wish(stand, wish, False)
     sky, now, begun, promises, _ = stand
-    clash = clash_of(sky, promises, wish, now=now, begun=begun)
-    if clash is not None:
-        raise Clash(clash)
-    there = stand_with(sky, now, begun, sorted([*promises, wish]))
-    return (there, worth_at(stand) - worth_at(there))
+    kept = sorted([*promises, wish])
+    best = best_keeping(sky, kept, now=now, begun=begun)
+    if best is None:
+        raise Clash(clash_of(sky, promises, wish, now=now, begun=begun))
+    worth, plan = best
+    return ((sky, now, begun, kept, plan), worth_at(stand) - worth)
 
 
 def release_wish(stand, wish):

@@ -115,11 +115,11 @@ def answer_late(sky, promises, worth, looks, *, now=0, begun=()):
     """Return what becomes of a late wish: the new sky, promises and plan if it is accepted, otherwise its clash."""
     later = with_late(sky, worth, looks, now=now)
     wish = len(sky[1])
-    clash = clash_of(later, promises, wish, now=now, begun=begun)
-    if clash is not None:
-        return (REFUSED, clash)
     kept = [*promises, wish]
-    return (ACCEPTED, later, kept, best_keeping(later, kept, now=now, begun=begun)[1])
+    best = best_keeping(later, kept, now=now, begun=begun)
+    if best is None:
+        return (REFUSED, clash_of(later, promises, wish, now=now, begun=begun))
+    return (ACCEPTED, later, kept, best[1])
 
 
 def begun_ahead(sky, plan, now):
