@@ -137,7 +137,8 @@ class Keeping(unittest.TestCase):
         self.assertEqual(forced_looks(SKY, [0, 1]), [0, 2])
         self.assertEqual(open_looks(SKY, []), [0, 1, 2])
         self.assertEqual(open_looks(SKY, [], begun=[0], now=1), [0, 2])
-        self.assertEqual((last_call(SKY, [], 1), last_call(SKY, [], 0, now=1)), (2, None))
+        self.assertEqual((last_call(SKY, [], 0), last_call(SKY, [], 1), last_call(SKY, [], 0, now=1)), (0, 2, None))
+        self.assertEqual(answer_late(SKY, [], 1, [(0, 1, 0, 1)])[0], "accepted")
 
     def test_a_wish_that_no_look_is_for(self):
         sky = make_sky([(0, 0, 1, 0, 1)])
