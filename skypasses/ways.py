@@ -3,6 +3,8 @@
 `place` is the sky or the fleet to which the states belong. `ways_on` is a function of a place and a state; it
 returns the list of the ways to go on, as tuples of the worth that is gained and the state behind. Each way leads
 to a greater state: so in ascending order all states behind a state come later than it.
+
+Here is also what several files need of lists: whether one ascends, and all parts of one.
 """
 
 
